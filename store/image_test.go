@@ -4,6 +4,7 @@ import (
 	"bytes"
 	"encoding/binary"
 	"fmt"
+	"math"
 	"math/rand/v2"
 	"slices"
 	"testing"
@@ -231,6 +232,36 @@ func TestLost(t *testing.T) {
 	holds(t, s, stateOf(2, entry("l", "2")))
 	is(t, "Checkpoint", s.Checkpoint(), api.OK)
 	holds(t, open(t, d), stateOf(2, entry("l", "2")))
+}
+
+// TestLaidOver: somebody lays pages that are whole over others of an open store's tree: what stands in no order is no tree any more; what does is told, also if it is more than there was.
+func TestLaidOver(t *testing.T) {
+	d := made(t, 4, map[int]api.Node{12: inner([]string{"c"}, 13, 14), 13: leaf(nil, "a", "b"), 14: leaf(nil, "c", "d")})
+	s := open(t, d)
+	apply(t, s, set("b", "2"))
+	low, _ := d.Raw(13)
+	high, _ := d.Raw(14)
+	for _, c := range []struct {
+		block int
+		laid  []byte
+	}{{14, low}, {13, high}} {
+		was, _ := d.Raw(c.block)
+		d.Edit(c.block, 0, c.laid)
+		for _, most := range []int{3, 4, 9, math.MaxInt} {
+			if l, more, errno := s.Scan("", "", most); len(l) != 0 || more || errno != api.ErrCorrupt {
+				t.Errorf("Scan(%d) over block %d: %v, %v, %d", most, c.block, l, more, errno)
+			}
+		}
+		d.Edit(c.block, 0, was)
+	}
+	b, _ := page.Encode(leaf(nil, "c", "d", "e", "f"))
+	d.Edit(14, 0, b)
+	for _, most := range []int{0, 1, 4, 5, 6, 7, math.MaxInt} {
+		want := []api.Entry{entry("a", "v"), entry("b", "2"), entry("c", "v"), entry("d", "v"), entry("e", "v"), entry("f", "v")}
+		if l, more, errno := s.Scan("", "", most); !slices.Equal(l, want[:min(most, 6)]) || more != (most < 6) || errno != api.OK {
+			t.Errorf("Scan(%d): %v, %v, %d", most, l, more, errno)
+		}
+	}
 }
 
 // resealed: the block's bytes with the sum that a page, a log block or a superblock would have.
